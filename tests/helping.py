@@ -1,0 +1,127 @@
+"""What several tests use."""
+
+import random
+import time
+import unittest
+from fractions import Fraction
+
+from dicewins.errors import DiceError
+
+NO_ROWS = (None, True, 3, "01", b"01", {0: 1}, {0, 1}, range(2), iter([0, 1]), 1.5)
+NO_INTS = (None, True, False, "1", 1.0, (1,), [1])
+
+
+class DiceTest(unittest.TestCase):
+    """A test that tells errors by class and attributes."""
+
+    def fails(self, error, told, call, *args, **more):
+        """The call raises just this error, with the attributes told, and the arguments are as before."""
+        before = repr(args)
+        with self.assertRaises(DiceError) as caught:
+            call(*args, **more)
+        self.assertIs(type(caught.exception), error, (call, args))
+        self.assertEqual(vars(caught.exception), told, (call, args))
+        self.assertEqual(repr(args), before)
+        return caught.exception
+
+    def same(self, found, expected):
+        """Equal, and of the same kind all the way down."""
+        self.assertEqual(found, expected)
+        self.assertEqual(repr(found), repr(expected))
+
+    def ends_soon(self, seconds, call, *args):
+        """What the call returns, if it does so within the limit."""
+        begun = time.perf_counter()
+        found = call(*args)
+        self.assertLess(time.perf_counter() - begun, seconds, call)
+        return found
+
+
+def some_die(chooser, ranks, most):
+    """A die with entries up to most."""
+    while True:
+        die = tuple(chooser.randint(0, most) for _ in range(ranks))
+        if any(die):
+            return die
+
+
+def some_dice(chooser, many, ranks, most):
+    """A row of dice."""
+    return [some_die(chooser, ranks, most) for _ in range(many)]
+
+
+def some_table(chooser, many, most):
+    """A skew table with entries up to most in size."""
+    rows = [[0] * many for _ in range(many)]
+    for i in range(many):
+        for j in range(i):
+            rows[i][j] = chooser.randint(-most, most)
+            rows[j][i] = -rows[i][j]
+    return tuple(tuple(row) for row in rows)
+
+
+def some_word(chooser, many, letters):
+    """A word over many dice."""
+    word = list(range(many)) + [chooser.randrange(many) for _ in range(letters - many)]
+    chooser.shuffle(word)
+    return tuple(word)
+
+
+def faces_of(die):
+    """The ranks of the faces of a die, one entry for each face."""
+    return [rank for rank, count in enumerate(die) for _ in range(count)]
+
+
+def counted(first, second):
+    """Wins of the first die, ties, and wins of the second die, pair by pair."""
+    pairs = [(a, b) for a in faces_of(first) for b in faces_of(second)]
+    return (
+        sum(a > b for a, b in pairs),
+        sum(a == b for a, b in pairs),
+        sum(a < b for a, b in pairs),
+    )
+
+
+def counted_table(dice):
+    """The table of a row of dice, counted pair by pair."""
+    rows = []
+    for first in dice:
+        row = []
+        for second in dice:
+            won, _, lost = counted(first, second)
+            row.append(won - lost)
+        rows.append(tuple(row))
+    return tuple(rows)
+
+
+def worth_of(value):
+    """A Fraction of a fraction of the program."""
+    return Fraction(value[0], value[1])
+
+
+def is_lowest(value):
+    """True if the value is a fraction as the program returns them."""
+    if type(value) is not tuple or len(value) != 2 or not all(type(entry) is int for entry in value):
+        return False
+    fitting = Fraction(value[0], value[1])
+    return (fitting.numerator, fitting.denominator) == value
+
+
+def steps_from(start, moves):
+    """The least numbers of steps from the start to all that can be reached, where moves tells what is one step away."""
+    found = {start: 0}
+    edge = [start]
+    while edge:
+        after = []
+        for here in edge:
+            for there in moves(here):
+                if there not in found:
+                    found[there] = found[here] + 1
+                    after.append(there)
+        edge = after
+    return found
+
+
+def chooser_of(seed):
+    """A source of choices that are the same in each run."""
+    return random.Random(seed)
