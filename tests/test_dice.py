@@ -170,6 +170,7 @@ class MixTest(DiceTest):
         self.fails(BadDie, {"place": 1}, mixed_die, (1, 1, 1), (1, 0), (1, -1), (0, 0))
         self.fails(BadDie, {"place": -1}, mixed_die, (1, 1, 1), (1, 0), (1, 0, 0), (0, 0))
         self.fails(OtherSize, {"first": 2, "second": 3}, mixed_die, (1, 1, 1, 1), (1, 0), (0, 1), (1, 0, 0), (1,))
+        self.fails(OtherSize, {"first": 2, "second": 3}, mixed_die, (1, 1), (1, 0), (0, 1, 0))
 
 
 if __name__ == "__main__":

@@ -67,7 +67,9 @@ class PutInTest(DiceTest):
         self.fails(OtherSize, {"first": 2, "second": 3}, put_in, cup, [[(1,)], [(1,)], [(1,), (2,)]])
         self.fails(OtherSize, {"first": 2, "second": 3}, put_in, cup, [inner[0], [(1,), (1,), (2,)]])
         self.fails(OtherSize, {"first": 2, "second": 1}, put_in, cup, [[(1,)], [(1,), (1,), (2,)]])
-        self.fails(OtherSize, {"first": 2, "second": 1}, put_in, cup, [inner[0], [(1,), (1,)]])
+        self.fails(OtherSize, {"first": 2, "second": 1}, put_in, cup, [inner[0], [(5,), (7,)]])
+        self.fails(OtherSize, {"first": 1, "second": 2}, put_in, [(3,)], [[(1,)], [(1,)]])
+        self.fails(OtherSize, {"first": 1, "second": 2}, put_in, [(3, 1)], [[(1,)], [(1, 4)]])
         self.fails(OtherSize, {"first": 2, "second": 3}, put_in, cup, [inner[0], [(1, 1), (1, 2)]])
         self.fails(OtherSize, {"first": 2, "second": 5}, put_in, cup, [[(1, 1), (0, 5)], [(1, 1), (1, 2)]])
 

@@ -18,6 +18,7 @@ def check_own_word(test, call):
     for value in NO_INTS + (-1,):
         test.fails(BadWord, {"place": 1}, call, [0, value, -1])
         test.fails(BadWord, {"place": 0}, call, (value, 7))
+    test.fails(BadWord, {"place": 1}, call, [0, -1, None])
     for value in ([], (), (1,), (0, 2), [0, 3, 1], (0, 10 ** 28)):
         test.fails(BadWord, {"place": -2}, call, value)
 
