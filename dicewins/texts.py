@@ -48,8 +48,9 @@ def die_in(line, number, ranks):
     for part in parts:
         if not is_plain_number(part):
             raise BadText(number)
+    entries = [int(part) for part in parts]
     try:
-        return die_of([int(part) for part in parts])
+        return die_of(entries)
     except BadDie as why:
         raise BadText(number) from why
 
