@@ -1,6 +1,6 @@
 """Fractions: pairs (p, q) of integers in lowest terms with q >= 1."""
 
-from math import gcd
+from math import gcd, lcm
 
 from dicewins.amounts import is_int, is_row
 from dicewins.errors import BadNumber
@@ -72,3 +72,11 @@ def is_less(first, second):
 def is_equal(first, second):
     """True if the two fractions have one worth."""
     return fraction(first, "first") == fraction(second, "second")
+
+
+def in_integers(row):
+    """The fractions of a row as integers over one divisor: the integers, and the least such divisor."""
+    divisor = 1
+    for _, bottom in row:
+        divisor = lcm(divisor, bottom)
+    return tuple([top * (divisor // bottom) for top, bottom in row]), divisor

@@ -1,5 +1,7 @@
 """What several tests use."""
 
+import itertools
+import math
 import random
 import time
 import unittest
@@ -58,6 +60,76 @@ def some_table(chooser, many, most):
             rows[i][j] = chooser.randint(-most, most)
             rows[j][i] = -rows[i][j]
     return tuple(tuple(row) for row in rows)
+
+
+def table_of_pairs(many, pairs):
+    """The skew table with these entries above the diagonal, in reading order."""
+    rows = [[0] * many for _ in range(many)]
+    places = [(i, j) for i in range(many) for j in range(i + 1, many)]
+    for (i, j), entry in zip(places, pairs, strict=True):
+        rows[i][j] = entry
+        rows[j][i] = -entry
+    return tuple(tuple(row) for row in rows)
+
+
+def all_tables(many, most):
+    """All skew tables of so many dice with entries up to most in size."""
+    for pairs in itertools.product(range(-most, most + 1), repeat=many * (many - 1) // 2):
+        yield table_of_pairs(many, pairs)
+
+
+def sum_of_planes(chooser, many, planes, most):
+    """A skew table that is the sum of so many planes, so of twice that rank at most."""
+    pairs = [[[chooser.randint(-most, most) for _ in range(many)] for _ in range(2)] for _ in range(planes)]
+    return tuple(
+        tuple(sum(u[i] * v[j] - v[i] * u[j] for u, v in pairs) for j in range(many)) for i in range(many)
+    )
+
+
+def odd_table(chooser, many, most):
+    """A skew table with odd entries alone off the diagonal."""
+    pairs = [chooser.randrange(-most, most, 2) | 1 for _ in range(many * (many - 1) // 2)]
+    return table_of_pairs(many, pairs)
+
+
+def in_order(many, entry=1):
+    """The table of dice in one order, in which each one beats all dice behind it."""
+    return table_of_pairs(many, [entry] * (many * (many - 1) // 2))
+
+
+def many_tables(chooser, most_dice=8):
+    """Tables of each sort: all 0, in one order, great, of low rank, odd, with like dice, of cups on few ranks."""
+    found = []
+    for many in range(1, most_dice + 1):
+        found.extend((in_order(many), in_order(many, 0), in_order(many, -3)))
+        for most in (1, 2, 9, 10 ** 6):
+            for _ in range(4):
+                found.append(some_table(chooser, many, most))
+            found.append(odd_table(chooser, many, most))
+        for planes in (1, 2, 3):
+            for _ in range(4):
+                found.append(sum_of_planes(chooser, many, planes, 3))
+        for ranks in (2, 3, 4, 6):
+            found.append(counted_table(some_dice(chooser, many, ranks, 2)))
+        rows = [chooser.randrange(many) for _ in range(many)]
+        small = some_table(chooser, many, 2)
+        found.append(tuple(tuple(small[i][j] for j in rows) for i in rows))
+    return found
+
+
+def worth_told(table, weights):
+    """The worth of a weighing, by its words."""
+    return tuple(sum(entry * weight for entry, weight in zip(row, weights)) for row in table)
+
+
+def is_short(row):
+    """True if no integer above 1 divides all entries."""
+    return math.gcd(*row) <= 1
+
+
+def digits_of(*rows):
+    """The most digits of an integer in the rows."""
+    return max(len(str(abs(entry))) for row in rows for entry in row)
 
 
 def some_word(chooser, many, letters):
