@@ -60,3 +60,9 @@ def areas(first, second):
     for rank in range(len(one)):
         found.append(mine[rank + 1] * others[rank] - mine[rank] * others[rank + 1])
     return tuple(found)
+
+
+def chances_round(dice, half):
+    """The chances, or half chances, of each die over the next one and of the last one over the first, as a list."""
+    following = dice[1:] + dice[:1]
+    return [half_chance(die, other) if half else chance(die, other) for die, other in zip(dice, following)]

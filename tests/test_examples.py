@@ -40,6 +40,85 @@ STAGE_2 = '''
     ['reached', (14, 5), ((8, 5), (6, 5)), ((2, 5), (1, 5))]
 '''
 
+STAGE_3 = '''
+    >>> from dicewins.weighing import Weighing, below_all, tie_mix
+    >>> ring = ((0, 1, -1), (-1, 0, 1), (1, -1, 0))
+    >>> [tie_mix(ring).entries, below_all(ring), Weighing((1, 0, 2)).worth(ring).entries]
+    [(1, 1, 1), None, (-2, 1, 1)]
+
+    >>> from dicewins.fewest import face_row, fewest_ranks, thrown
+    >>> pair = ((0, 1), (-1, 0))
+    >>> ring = ((0, 1, -1), (-1, 0, 1), (1, -1, 0))
+    >>> [fewest_ranks(pair), face_row(pair, (2, 3)), fewest_ranks(ring), thrown(pair).cup.ranks]
+    [2, True, 4, 2]
+
+    >>> from dicewins.slopes import alternates, slope
+    >>> [slope((1, 2, 3)), slope((2, 1)), slope((0, 0, 4)), alternates((2, -2, 2)), alternates((1, -1))]
+    [(5, 3), (1, 2), None, True, False]
+'''
+
+STAGE_4 = '''
+    >>> from dicewins.best import beaten_by, is_best, leaders
+    >>> ring = ((0, 1, -1), (-1, 0, 1), (1, -1, 0))
+    >>> [is_best(ring, (1, 1, 1)), is_best(ring, (1, 0, 0)), beaten_by(ring, (1, 0, 0)), leaders(ring, (1, 0, 0))]
+    [True, False, (1,), (2,)]
+
+    >>> from dicewins.sorting import all_tie_mix, can_be_taken, full_mix
+    >>> pair, ring = ((0, 2), (-2, 0)), ((0, 1, -1), (-1, 0, 1), (1, -1, 0))
+    >>> [can_be_taken(pair), full_mix(pair).entries, all_tie_mix(pair), all_tie_mix(ring).entries]
+    [(0,), (1, 0), None, (1, 1, 1)]
+
+    >>> from dicewins.single import only_mix, two_mixes
+    >>> level, pair = ((0, 0), (0, 0)), ((0, 2), (-2, 0))
+    >>> [only_mix(level), only_mix(pair).entries, two_mixes(level) is None, two_mixes(pair)]
+    [None, (1, 0), False, None]
+
+    >>> from dicewins.pfaffs import left_out_row, odd_mix, odd_table_for, pfaffian
+    >>> ring = ((0, 3, -1), (-3, 0, 5), (1, -5, 0))
+    >>> four = ((0, 1, 2, 3), (-1, 0, 4, 5), (-2, -4, 0, 6), (-3, -5, -6, 0))
+    >>> [odd_mix(ring).entries, left_out_row(ring), pfaffian(four)]
+    [(5, 1, 3), (5, 1, 3), 8]
+    >>> [odd_table_for((1, 3, 5)), odd_table_for((3, 0, 0))]
+    [((0, 5, -3), (-5, 0, 1), (3, -1, 0)), ((0, 1, 1), (-1, 0, 1), (-1, -1, 0))]
+'''
+
+STAGE_5 = '''
+    >>> from dicewins.paths import at_gaps, gains, leads_over
+    >>> cup = [(1, 0, 1), (0, 2, 0)]
+    >>> [gains(cup), leads_over(cup, (1, 0, 0, 0, 3, 0, 0)), at_gaps((0, 0, 0, 1, 1, 0, 0))]
+    [((-2, -2), (0, -2), (0, 2), (2, 2)), (-2, 4), (0, 0, 1, 0, 3, 0, 0)]
+
+    >>> from dicewins.further import closer, further
+    >>> answer = further([(2, 1), (1, 2)], beating=[1], losing=[0])
+    >>> [answer.WORD, answer.weights, answer.shows([(2, 1), (1, 2)], [[1], [0], []])]
+    ['barred', (1, 1), True]
+    >>> [closer([(0, 0, 2), (1, 0, 1)]), closer([(1, 0, 2), (0, 3, 0)]) is None]
+    [None, False]
+
+    >>> from dicewins.most import most_lead
+    >>> most_lead([(1, 0, 1), (0, 2, 0)], 1, [0, None]).value
+    (2, 1)
+'''
+
+STAGE_6 = '''
+    >>> from dicewins.chains import closes_at, closing_turn, rests
+    >>> [rests([(1, 2), (1, 2), 0]), closes_at([0, (1, 2), (1, 2)]), closing_turn([1, (1, 2), (1, 2)])]
+    [((1, 1), (1, 2), (0, 1)), 3, (0, 3)]
+
+    >>> from dicewins.rings import least_many, ring_for
+    >>> [ring_for([(2, 3)] * 3), ring_for([(1, 2), (1, 2)]).is_deck(), least_many((2, 3)), least_many((3, 4))]
+    [None, True, 4, None]
+
+    >>> from dicewins.cutting import points_of
+    >>> points_of([(1, 1, 1), (0, 2, 0)], 0)
+    [(0, (0, 1), (1, 1)), (1, (0, 1), (0, 1)), (2, (1, 1), (0, 1))]
+
+    >>> from dicewins.closed import closing_place, row_losses
+    >>> cup = [(0, 1, 0, 1, 0, 0, 0, 0, 1), (1, 0, 0, 0, 0, 1, 0, 1, 0), (0, 0, 1, 0, 1, 0, 1, 0, 0)]
+    >>> [row_losses(cup, [0, 1, 2]), closing_place(cup, [0, 1, 2])]
+    [((4, 9), (4, 9), (4, 9)), (0, 3)]
+'''
+
 
 class ExampleTest(unittest.TestCase):
     def check(self, text, many):
@@ -55,6 +134,18 @@ class ExampleTest(unittest.TestCase):
 
     def test_stage_2(self):
         self.check(STAGE_2, 12)
+
+    def test_stage_3(self):
+        self.check(STAGE_3, 9)
+
+    def test_stage_4(self):
+        self.check(STAGE_4, 14)
+
+    def test_stage_5(self):
+        self.check(STAGE_5, 9)
+
+    def test_stage_6(self):
+        self.check(STAGE_6, 9)
 
 
 if __name__ == "__main__":

@@ -38,7 +38,61 @@ NAMES = {
     "putting": "put_in(cup,inner) thrown_again(cup)",
     "linear": "row_rank(rows) kernel_rows(rows,width) solution(rows,right)",
     "programs": "Outcome(word,total,unknowns,weights) greatest_sum(aims,rows,bounds)",
+    "weighing": "Weighing(entries) Mix(entries) tie_mix(table) below_all(table)",
+    "planes": "table_rank(table) terms_of(table) inverse_signs(ranks)",
+    "fewest": (
+        "fewest_ranks(table) Thrown(cup,times,reason) thrown(table) face_row(table,row) thrown_with(table,row)"
+        " thrown_wide(table,row)"
+    ),
+    "slopes": "slope(die) ring_on_four(many) alternates(row)",
+    "best": (
+        "is_best(table,mix) best_mix(table) best_within(table,numbers) beaten_by(table,mix) leaders(table,mix)"
+    ),
+    "sorting": (
+        "sorted_mixes(table) can_be_taken(table) full_mix(table) all_tie_mix(table) none_against(table)"
+    ),
+    "single": "only_mix(table) two_mixes(table)",
+    "pfaffs": "pfaffian(table) left_out_row(table) odd_table_for(mix) odd_mix(table) mix_ring(table)",
+    "paths": (
+        "gains(cup) leads_over(cup,die) at_gaps(die) Answer(size) Found(die,number=1) Barred(size,weights)"
+    ),
+    "further": (
+        "further(cup,*,beating=(),losing=(),tying=()) leads_row(cup,row,number) leads_free(cup,row)"
+        " between(cup,upper,lower) closer(cup)"
+    ),
+    "most": "Most(die,value,weights) most_lead(cup,die,bounds)",
+    "follows": (
+        "follows_beaten(cup,numbers,die) mix_over(cup,numbers,die) beaten_among(cup,die,numbers)"
+        " mix_under(cup,die,numbers) is_free(cup) standing_pair(cup)"
+    ),
+    "chains": "rests(losses) closes_at(losses) rest_of(losses) turns(chances) closing_turn(chances)",
+    "rings": (
+        "ring_for(chances,*,half=False) is_ring(cup,chances,*,half=False) equal_ring(many,chance) least_many(chance)"
+    ),
+    "cutting": "points_of(cup,number) cut_ring(cup,number) cut_all(cup)",
+    "closed": "row_losses(cup,numbers) closing_place(cup,numbers) ring_losses(cup) closing_of(cup)",
 }
+METHODS = {
+    "cups Cup": (
+        "of_word(word,many) checked(dice) taken(self,numbers) with_die(self,die) spread(self,times) scaled(self,row)"
+        " wide(self) is_deck(self)"
+    ),
+    "weighing Weighing": "worth(self,table) short(self) is_below_all(self,table)",
+    "weighing Mix": "short(self) taken_dice(self) thrown_in(self,cup) ties_with_all(self,table)",
+    "paths Answer": "shows(self,cup,rows)",
+    "paths Found": "shows(self,cup,rows)",
+    "paths Barred": "shows(self,cup,rows)",
+}
+
+
+def parameters_of(found):
+    """The parameters as they are listed, a star for those behind it that are passed by name."""
+    told = []
+    for each in inspect.signature(found).parameters.values():
+        if each.kind is each.KEYWORD_ONLY and "*" not in told:
+            told.append("*")
+        told.append(str(each).replace(" ", ""))
+    return ",".join(told)
 
 
 class InterfaceTest(unittest.TestCase):
@@ -46,11 +100,19 @@ class InterfaceTest(unittest.TestCase):
         for stem, listed in NAMES.items():
             module = importlib.import_module(f"dicewins.{stem}")
             for entry in listed.split():
-                name, _, parameters = entry.rstrip(")").partition("(")
+                name, _, parameters = entry.removesuffix(")").partition("(")
                 found = getattr(module, name)
                 self.assertEqual(found.__module__, f"dicewins.{stem}")
-                told = ",".join(str(each) for each in inspect.signature(found).parameters.values())
-                self.assertEqual(told, parameters, entry)
+                self.assertEqual(parameters_of(found), parameters, entry)
+
+    def test_methods_stand_in_their_classes(self):
+        for place, listed in METHODS.items():
+            stem, _, kind = place.partition(" ")
+            owner = getattr(importlib.import_module(f"dicewins.{stem}"), kind)
+            for entry in listed.split():
+                name, _, parameters = entry.removesuffix(")").partition("(")
+                self.assertIn(name, vars(owner), entry)
+                self.assertEqual(parameters_of(getattr(owner, name)), parameters, entry)
 
 
 if __name__ == "__main__":

@@ -22,7 +22,7 @@ STATEMENTS = (
     ast.Expr, ast.Pass, ast.Break, ast.Continue, ast.ImportFrom, ast.Delete, ast.Assert,
 )
 FORBIDDEN_NODES = (
-    ast.Div, ast.GeneratorExp, ast.Lambda, ast.Global, ast.Await, ast.Yield, ast.YieldFrom, ast.AnnAssign, ast.Import,
+    ast.Div, ast.GeneratorExp, ast.Lambda, ast.Global, ast.Await, ast.YieldFrom, ast.AnnAssign, ast.Import,
 )
 DOUBLE = {
     "__init__", "__eq__", "__repr__", "__str__", "__len__", "__iter__", "__add__", "__sub__", "__mul__", "__neg__",
@@ -229,6 +229,66 @@ class SignTest(unittest.TestCase):
             for node in ast.walk(tree):
                 if called_name(node) in ITERATED:
                     self.assertIn(node, fitting, (name, node.lineno))
+
+    def test_generators(self):
+        yielding = set()
+        for name, _, tree in read_files():
+            statements = {node.value for node in ast.walk(tree) if isinstance(node, ast.Expr)}
+            functions = [node for node in tree.body if isinstance(node, ast.FunctionDef)]
+            for node in ast.walk(tree):
+                if isinstance(node, ast.Yield):
+                    self.assertIn(node, statements, (name, node.lineno))
+                    owners = [each.name for each in functions if node in list(ast.walk(each))]
+                    self.assertEqual(len(owners), 1, (name, node.lineno))
+                    yielding.update(owners)
+        self.assertEqual(yielding, {"turns"})
+        for name, _, tree in read_files():
+            fitting = set()
+            for node in ast.walk(tree):
+                if isinstance(node, (ast.For, ast.comprehension)):
+                    fitting.update((node.iter, *getattr(node.iter, "args", ())[:1]))
+            for node in ast.walk(tree):
+                if called_name(node) in yielding:
+                    self.assertIn(node, fitting, (name, node.lineno))
+                    self.assertTrue(all(isinstance(each, ast.Name) for each in node.args), (name, node.lineno))
+                if isinstance(node, ast.FunctionDef):
+                    bound = [entry for entry, _ in bound_names(node)]
+                    self.assertEqual(yielding & set(bound), set(), (name, node.name))
+
+    def test_classes(self):
+        owners = {
+            node.name: node for _, _, tree in read_files() for node in tree.body if isinstance(node, ast.ClassDef)
+        }
+        for name, node in owners.items():
+            self.assertTrue(all(each.id in owners or each.id == "ValueError" for each in node.bases), name)
+            for entry in node.body[1:]:
+                self.assertIsInstance(entry, (ast.FunctionDef, ast.Assign), name)
+                if isinstance(entry, ast.Assign):
+                    self.assertIsInstance(entry.value, ast.Constant, name)
+
+    def test_no_name_is_a_method_and_an_attribute(self):
+        methods, attributes = set(), set()
+        for _, _, tree in read_files():
+            for node in ast.walk(tree):
+                if isinstance(node, ast.ClassDef):
+                    methods |= {each.name for each in node.body if isinstance(each, ast.FunctionDef)}
+                if isinstance(node, ast.Attribute) and isinstance(node.ctx, ast.Store):
+                    self.assertIsInstance(node.value, ast.Name)
+                    attributes.add(node.attr)
+        self.assertEqual(methods & attributes, set())
+
+    def test_nested_comprehensions_bind_names_of_their_own(self):
+        comprehensions = (ast.ListComp, ast.DictComp, ast.SetComp)
+        for name, _, tree in read_files():
+            for outer in ast.walk(tree):
+                if isinstance(outer, comprehensions):
+                    taken = {each.id for part in outer.generators for each in ast.walk(part.target)
+                             if isinstance(each, ast.Name)}
+                    for inner in ast.walk(outer):
+                        if inner is not outer and isinstance(inner, comprehensions):
+                            more = {each.id for part in inner.generators for each in ast.walk(part.target)
+                                    if isinstance(each, ast.Name)}
+                            self.assertEqual(taken & more - {"_"}, set(), (name, inner.lineno))
 
     def test_sets(self):
         for name, _, tree in read_files():
