@@ -47,9 +47,14 @@ def word_table(word, many):
     return table_of(Cup.of_word(word, many))
 
 
+def exchange_place(letters, at):
+    """The place, if there is an exchange at it in a word that is known to be one."""
+    if not is_int(at) or not 0 <= at < len(letters) - 1 or letters[at] == letters[at + 1]:
+        raise BadNumber("at")
+    return at
+
+
 def swapped(word, at):
     """The word behind the exchange at the place."""
     letters = own_word(word)
-    if not is_int(at) or not 0 <= at < len(letters) - 1 or letters[at] == letters[at + 1]:
-        raise BadNumber("at")
-    return turned_at(letters, at)
+    return turned_at(letters, exchange_place(letters, at))

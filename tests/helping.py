@@ -7,7 +7,7 @@ import time
 import unittest
 from fractions import Fraction
 
-from dicewins.errors import DiceError
+from dicewins.errors import BadDie, BadNumber, DiceError
 
 NO_ROWS = (None, True, 3, "01", b"01", {0: 1}, {0, 1}, range(2), iter([0, 1]), 1.5)
 NO_INTS = (None, True, False, "1", 1.0, (1,), [1])
@@ -37,6 +37,21 @@ class DiceTest(unittest.TestCase):
         found = call(*args)
         self.assertLess(time.perf_counter() - begun, seconds, call)
         return found
+
+
+def check_die(test, call):
+    """The call raises BadDie for what is no die."""
+    for value in NO_ROWS + ((), [], (0,), [0, 0]):
+        test.fails(BadDie, {"place": -1}, call, value)
+    for value in NO_INTS + (-1,):
+        test.fails(BadDie, {"place": 1}, call, (0, value, -1))
+        test.fails(BadDie, {"place": 0}, call, [value])
+
+
+def check_number(test, name, wrong, call):
+    """The call raises BadNumber of this name for what is no integer and for the wrong ones."""
+    for value in NO_INTS + tuple(wrong):
+        test.fails(BadNumber, {"name": name}, call, value)
 
 
 def some_die(chooser, ranks, most):

@@ -117,8 +117,60 @@ STAGE_6 = '''
     >>> cup = [(0, 1, 0, 1, 0, 0, 0, 0, 1), (1, 0, 0, 0, 0, 1, 0, 1, 0), (0, 0, 1, 0, 1, 0, 1, 0, 0)]
     >>> [row_losses(cup, [0, 1, 2]), closing_place(cup, [0, 1, 2])]
     [((4, 9), (4, 9), (4, 9)), (0, 3)]
+
+    >>> from dicewins.ends import best_cut, last_chance, last_span
+    >>> [best_cut([(2, 3), (2, 3)]), last_chance([(2, 3), (2, 3)]), last_span([(4, 5), (4, 5)])]
+    [1, (5, 9), ((0, 1), (9, 25))]
 '''
 
+STAGE_7 = '''
+    >>> from dicewins.webs import Web
+    >>> from dicewins.barring import closing_web
+    >>> from dicewins.cuts import crossings
+    >>> web = Web([[1, 2], [1, 1]], [[(0, 0), (1, 1)], [(0, 1), (1, 0)]])
+    >>> [web.losses(), closing_web(web), crossings(web)]
+    [((1, 2), (1, 2)), (0, 2), 1]
+
+    >>> from dicewins.barring import must_meet
+    >>> [must_meet([(1, 4), (1, 4), (1, 4)]), must_meet([(1, 3), (1, 3), (1, 3), (1, 3)])]
+    [True, False]
+
+    >>> from dicewins.webs import Web
+    >>> web = Web.of_cup([[1, 0, 1], [0, 2, 0]])
+    >>> [web.lots, web.relations, web.share(0)]
+    [((1, 1), (2,)), (((1, 0),), ((0, 0),)), (1, 2)]
+
+    >>> from dicewins.joins import join_of_two, least_join
+    >>> [least_join([(2, 3), (2, 3)]), join_of_two((2, 3), (2, 3)), join_of_two((1, 2), (1, 3))]
+    [(4, 9), (4, 9), (0, 1)]
+
+    >>> from dicewins.webs import Web
+    >>> from dicewins.walks import joined, reached, rounds
+    >>> web = Web([[1, 1], [1], [2, 1]], [[(1, 0)], [(0, 0), (0, 1)], [(0, 0), (1, 1)]])
+    >>> [list(rounds(web)), joined(web), reached(web, 2, [0])]
+    [[(1, 0, 1)], [(1, 0), (1, 1)], ((0,), (0,), ())]
+'''
+
+STAGE_8 = '''
+    >>> from dicewins.many import greatest_die, least_die, chance_of_two
+    >>> [greatest_die([1, 0, 1], 2), least_die([1, 0, 1], 2), chance_of_two([1, 0, 1], 2, [0, 1, 0], 1)]
+    [(1, 0, 3), (3, 0, 1), (3, 4)]
+
+    >>> from dicewins.many import exchange_gain
+    >>> [exchange_gain([0, 1, 0, 1], 2, 1), exchange_gain([0, 1, 0, 1], 2, 2)]
+    [2, 18]
+
+    >>> from dicewins.doubling import cup_of_levels
+    >>> cup_of_levels(3, [(1, [[0], [1, 2]]), (2, [[0, 1, 2]])]).dice
+    ((1, 0, 2), (0, 1, 2), (0, 1, 2))
+
+    >>> from dicewins.doubling import double_cup
+    >>> from dicewins.many import many_cup
+    >>> from dicewins.tables import table_of
+    >>> cup = double_cup([[0, 1], [-1, 0]], [[0, -1], [1, 0]])
+    >>> [table_of(cup), table_of(many_cup(cup, 2))]
+    [((0, 1), (-1, 0)), ((0, -1), (1, 0))]
+'''
 
 class ExampleTest(unittest.TestCase):
     def check(self, text, many):
@@ -145,7 +197,13 @@ class ExampleTest(unittest.TestCase):
         self.check(STAGE_5, 9)
 
     def test_stage_6(self):
-        self.check(STAGE_6, 9)
+        self.check(STAGE_6, 11)
+
+    def test_stage_7(self):
+        self.check(STAGE_7, 16)
+
+    def test_stage_8(self):
+        self.check(STAGE_8, 11)
 
 
 if __name__ == "__main__":

@@ -71,6 +71,24 @@ NAMES = {
     ),
     "cutting": "points_of(cup,number) cut_ring(cup,number) cut_all(cup)",
     "closed": "row_losses(cup,numbers) closing_place(cup,numbers) ring_losses(cup) closing_of(cup)",
+    "ends": (
+        "last_chance(chances) best_cut(chances) last_ring(chances) exact_ring(chances) last_span(chances)"
+    ),
+    "webs": "Web(lots,relations) web_turned(web)",
+    "walks": (
+        "reached(web,first,points) has_walk(web) walk_of(web) joined(web) joined_share(web) rounds(web) round_of(web)"
+        " is_barred(web)"
+    ),
+    "barring": "must_meet(losses) closing_web(web) barred_web(shares) barred_row(shares)",
+    "cuts": "lot_cut(web,number) two_pointed(web) crossings(web)",
+    "joins": "least_join(shares) join_of_two(first,second) joining_cup(shares)",
+    "many": (
+        "greatest_die(die,count) least_die(die,count) Greatest(count) Least(count) many_cup(cup,count,*,least=False)"
+        " chance_of_two(a,count,b,other) exchange_gain(word,at,count)"
+    ),
+    "doubling": (
+        "double_cup(table,other) stretch_of(worth,start) cup_of_levels(many,levels) turning_ring(many)"
+    ),
 }
 METHODS = {
     "cups Cup": (
@@ -82,6 +100,30 @@ METHODS = {
     "paths Answer": "shows(self,cup,rows)",
     "paths Found": "shows(self,cup,rows)",
     "paths Barred": "shows(self,cup,rows)",
+    "webs Web": (
+        "share(self,number) loss(self,number) losses(self) related(self,number,point,other) cut(self,kept,weights)"
+        " of_cup(cup) drawn_row(lots,relations) __eq__(self,other)"
+    ),
+    "many Greatest": "__call__(self,die)",
+    "many Least": "__call__(self,die)",
+}
+PROPERTIES = {
+    "cups Cup": "many", "paths Found": "whole",
+}
+# a way to create an object of each class, and the attributes that are set then
+OBJECTS = {
+    "cups Cup": (([(1, 0)],), "dice ranks"),
+    "programs Outcome": ((1, 2, 3, 4), "word total unknowns weights"),
+    "weighing Weighing": (([1, -2],), "entries"),
+    "weighing Mix": (([1, 2],), "entries"),
+    "fewest Thrown": ((1, 2, 3), "cup times reason"),
+    "paths Answer": ((3,), "size"),
+    "paths Found": (((1, 0, 2),), "die size number"),
+    "paths Barred": ((3, (1, 0)), "size weights"),
+    "most Most": ((1, 2, 3), "die value weights"),
+    "webs Web": (([[1], [1]], [[], []]), "lots relations size"),
+    "many Greatest": ((3,), "count"),
+    "many Least": ((3,), "count"),
 }
 
 
@@ -113,6 +155,19 @@ class InterfaceTest(unittest.TestCase):
                 name, _, parameters = entry.removesuffix(")").partition("(")
                 self.assertIn(name, vars(owner), entry)
                 self.assertEqual(parameters_of(getattr(owner, name)), parameters, entry)
+
+    def test_attributes_are_set_at_once(self):
+        for place, (told, names) in OBJECTS.items():
+            stem, _, kind = place.partition(" ")
+            found = getattr(importlib.import_module(f"dicewins.{stem}"), kind)(*told)
+            self.assertLessEqual(set(names.split()), set(vars(found)), place)
+
+    def test_properties_stand_in_their_classes(self):
+        for place, listed in PROPERTIES.items():
+            stem, _, kind = place.partition(" ")
+            owner = getattr(importlib.import_module(f"dicewins.{stem}"), kind)
+            for name in listed.split():
+                self.assertIsInstance(vars(owner)[name], property)
 
 
 if __name__ == "__main__":

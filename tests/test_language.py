@@ -19,14 +19,14 @@ METHODS = set(
 )
 STATEMENTS = (
     ast.FunctionDef, ast.ClassDef, ast.Return, ast.Assign, ast.AugAssign, ast.For, ast.While, ast.If, ast.Raise, ast.Try,
-    ast.Expr, ast.Pass, ast.Break, ast.Continue, ast.ImportFrom, ast.Delete, ast.Assert,
+    ast.Expr, ast.Pass, ast.Break, ast.Continue, ast.ImportFrom, ast.Delete, ast.Assert, ast.With,
 )
 FORBIDDEN_NODES = (
     ast.Div, ast.GeneratorExp, ast.Lambda, ast.Global, ast.Await, ast.YieldFrom, ast.AnnAssign, ast.Import,
 )
 DOUBLE = {
     "__init__", "__eq__", "__repr__", "__str__", "__len__", "__iter__", "__add__", "__sub__", "__mul__", "__neg__",
-    "__invert__", "__contains__", "__getitem__",
+    "__invert__", "__contains__", "__getitem__", "__call__", "__enter__", "__exit__",
 }
 FORBIDDEN_WORDS = set(
     "type typing enum Enum Flag Generic Protocol ABC namedtuple NamedTuple register mro elements input law eval exec"
@@ -34,6 +34,7 @@ FORBIDDEN_WORDS = set(
 )
 ITERATED = {"zip", "enumerate", "reversed", "range"}
 TAKERS = {"list", "tuple", "dict", "sorted", "sum", "any", "all", "enumerate", "zip", "min", "max", "len"}
+GENERATORS = {"turns", "rounds"}
 
 
 def read_files():
@@ -180,14 +181,17 @@ class SignTest(unittest.TestCase):
         for name, _, tree in read_files():
             for place, node in enumerate(tree.body):
                 fitting = isinstance(node, (ast.ImportFrom, ast.FunctionDef, ast.ClassDef))
-                self.assertTrue(fitting or place == 0, (name, node.lineno))
+                # a table of plain values may stand there, too
+                table = isinstance(node, ast.Assign) and isinstance(ast.literal_eval(node.value), dict)
+                self.assertTrue(fitting or table or place == 0, (name, node.lineno))
 
     def test_decorators(self):
         for name, _, tree in read_files():
             for node in ast.walk(tree):
                 if isinstance(node, ast.FunctionDef):
                     for entry in node.decorator_list:
-                        self.assertIn(entry.id, ("property", "staticmethod", "classmethod"), (name, node.name))
+                        fitting = ("property", "staticmethod", "classmethod", f"{node.name}.setter")
+                        self.assertIn(ast.unparse(entry), fitting, (name, node.name))
 
     def test_is_and_exponents_and_texts(self):
         for name, _, tree in read_files():
@@ -226,6 +230,8 @@ class SignTest(unittest.TestCase):
                     fitting.add(node.iter)
                 elif called_name(node) in TAKERS:
                     fitting.update(node.args[:1])
+                elif called_name(node) == "reversed" and called_name(node.args[0]) == "range":
+                    fitting.update(node.args)
             for node in ast.walk(tree):
                 if called_name(node) in ITERATED:
                     self.assertIn(node, fitting, (name, node.lineno))
@@ -241,7 +247,7 @@ class SignTest(unittest.TestCase):
                     owners = [each.name for each in functions if node in list(ast.walk(each))]
                     self.assertEqual(len(owners), 1, (name, node.lineno))
                     yielding.update(owners)
-        self.assertEqual(yielding, {"turns"})
+        self.assertEqual(yielding, GENERATORS)
         for name, _, tree in read_files():
             fitting = set()
             for node in ast.walk(tree):
