@@ -170,7 +170,63 @@ STAGE_8 = '''
     >>> cup = double_cup([[0, 1], [-1, 0]], [[0, -1], [1, 0]])
     >>> [table_of(cup), table_of(many_cup(cup, 2))]
     [((0, 1), (-1, 0)), ((0, -1), (1, 0))]
+
+    >>> from dicewins.orders import last_order, last_unlike, settled_count
+    >>> dice = [[2, 0, 0, 1], [0, 1, 1, 0]]
+    >>> [last_unlike(dice[0], dice[1]), settled_count(dice), last_order(dice)]
+    [3, 2, [(0,), (1,)]]
 '''
+
+STAGE_9 = '''
+    >>> from dicewins.telling import tells_number
+    >>> [tells_number(3, 1, [1]), tells_number(3, 2, [1])]
+    [True, False]
+
+    >>> from dicewins.telling import die_told
+    >>> die_told(3, 2, [0, 2], [1, -1])
+    (1, 0, 1)
+
+    >>> from dicewins.following import follow_weights
+    >>> follow_weights([[0, 2]], [0, 1])
+    (((1, 2),), (0, 1))
+
+    >>> from dicewins.ranges import lead_range
+    >>> span = lead_range([[1, 0, 1]], [0], [1, 0, 0])
+    >>> [span.low, span.high]
+    [(1, 2), (1, 1)]
+
+    >>> from dicewins.hidden import Hidden
+    >>> die = Hidden(3, 2)
+    >>> die.tell([1, 0, 0], 1)
+    >>> die.tell([0, 0, 1], -1)
+    >>> [die.settled(), die.found_die(), die.asked]
+    [True, (1, 0, 1), 2]
+'''
+
+STAGE_10 = '''
+    >>> from dicewins.desks import Desk
+    >>> desk = Desk([[0, 1, 0, 1, 0, 0, 0, 0, 1], [1, 0, 0, 0, 0, 1, 0, 1, 0]])
+    >>> news = desk.put([0, 0, 1, 0, 1, 0, 1, 0, 0])
+    >>> [news, desk.lone_mix().entries, desk.done]
+    [{'dice': 3, 'leads': (1, -1), 'ranks': 2}, (1, 1, 1), 1]
+
+    >>> from dicewins.desks import Desk
+    >>> desk = Desk([[0, 1], [1, 0]])
+    >>> [desk.ranks_needed(), desk.blend([1, 1]), desk.cup_now.dice, desk.ranks_needed()]
+    [2, {'dice': 3, 'leads': (-1, 1)}, ((0, 1), (1, 0), (1, 1)), 2]
+
+    >>> from dicewins.desks import Desk
+    >>> from dicewins.trials import tried
+    >>> desk = Desk([[1, 0, 1], [0, 2, 0]])
+    >>> news = tried(desk, [["raise_face", 0, 0], ["throw_many", 2]])
+    >>> [news, desk.done, desk.cup_now.dice]
+    [[{'leads': (0, 2)}, {'faces': (4, 4)}], 0, ((1, 0, 1), (0, 2, 0))]
+
+    >>> from dicewins.listing import listing
+    >>> listing([[1, 0, 1], [0, 2, 0], [1, 0, 0]])
+    ['die 0: faces 2, ranks 0 2', 'die 1: faces 2, ranks 1', 'die 2: faces 1, ranks 0', '0 ties 1', '0 beats 2 by 1', '1 beats 2 by 2']
+'''
+
 
 class ExampleTest(unittest.TestCase):
     def check(self, text, many):
@@ -203,7 +259,13 @@ class ExampleTest(unittest.TestCase):
         self.check(STAGE_7, 16)
 
     def test_stage_8(self):
-        self.check(STAGE_8, 11)
+        self.check(STAGE_8, 14)
+
+    def test_stage_9(self):
+        self.check(STAGE_9, 14)
+
+    def test_stage_10(self):
+        self.check(STAGE_10, 14)
 
 
 if __name__ == "__main__":

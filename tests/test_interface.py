@@ -89,6 +89,21 @@ NAMES = {
     "doubling": (
         "double_cup(table,other) stretch_of(worth,start) cup_of_levels(many,levels) turning_ring(many)"
     ),
+    "orders": "last_unlike(a,b) first_unlike(a,b) settled_from(a,b) last_order(cup) settled_count(cup)",
+    "telling": (
+        "test_rows(tests) tellings(tests,die) tell_all(tests) unlike_pair(tests) one_faced_tests(ranks,tested)"
+        " die_told(ranks,number,tested,leads) fewest_tests(ranks) tells_number(ranks,number,tested)"
+        " twins(ranks,number,tested)"
+    ),
+    "following": "follows_from(tests,die) follow_weights(tests,die) split_pair(tests,die)",
+    "ranges": (
+        "Span(low,high,low_die,high_die,low_weights,high_weights) lead_range(tests,leads,die)"
+        " die_between(tests,leads,die,value) no_shares(tests,leads)"
+    ),
+    "hidden": "Hidden(ranks,number)",
+    "desks": "Desk(cup)",
+    "trials": "Trial(desk) tried(desk,deeds)",
+    "listing": "leads_on(cup) listing(cup) lead_square(cup)",
 }
 METHODS = {
     "cups Cup": (
@@ -106,9 +121,17 @@ METHODS = {
     ),
     "many Greatest": "__call__(self,die)",
     "many Least": "__call__(self,die)",
+    "hidden Hidden": "tell(self,test,lead) lead_on(self,die) settled(self) found_die(self)",
+    "desks Desk": (
+        "put(self,die) drop(self,number) raise_face(self,number,rank) stack_on(self,cup) blend(self,weights)"
+        " throw_many(self,count) scale(self,row) turn_round(self) back(self) to_mark(self,number) table_now(self)"
+        " ranks_needed(self) lone_mix(self) ring_place(self,numbers) third(self,first,second) settled_now(self)"
+        " find_order(self)"
+    ),
+    "trials Trial": "begin(self) finish(self)",
 }
 PROPERTIES = {
-    "cups Cup": "many", "paths Found": "whole",
+    "cups Cup": "many", "paths Found": "whole", "hidden Hidden": "asked", "desks Desk": "cup_now done mark",
 }
 # a way to create an object of each class, and the attributes that are set then
 OBJECTS = {
@@ -124,7 +147,15 @@ OBJECTS = {
     "webs Web": (([[1], [1]], [[], []]), "lots relations size"),
     "many Greatest": ((3,), "count"),
     "many Least": ((3,), "count"),
+    "ranges Span": ((1, 2, 3, 4, 5, 6), "low high low_die high_die low_weights high_weights"),
+    "hidden Hidden": ((3, 2), "ranks number"),
+    "trials Trial": ((None,), "desk ended"),
 }
+ALL_MODULES = (
+    "errors amounts fractions_of dice throws cups tables texts reaching making words exchanges pairing putting linear"
+    " programs weighing planes fewest slopes best sorting single pfaffs paths further most follows chains rings cutting"
+    " closed ends webs walks barring cuts joins many doubling orders telling following ranges hidden desks trials listing"
+)
 
 
 def parameters_of(found):
@@ -168,6 +199,10 @@ class InterfaceTest(unittest.TestCase):
             owner = getattr(importlib.import_module(f"dicewins.{stem}"), kind)
             for name in listed.split():
                 self.assertIsInstance(vars(owner)[name], property)
+
+    def test_every_module_of_the_document_is_there(self):
+        self.assertEqual(len(NAMES) + 1, len(ALL_MODULES.split()))
+        self.assertEqual(set(NAMES) | {"errors"}, set(ALL_MODULES.split()))
 
 
 if __name__ == "__main__":

@@ -34,7 +34,7 @@ FORBIDDEN_WORDS = set(
 )
 ITERATED = {"zip", "enumerate", "reversed", "range"}
 TAKERS = {"list", "tuple", "dict", "sorted", "sum", "any", "all", "enumerate", "zip", "min", "max", "len"}
-GENERATORS = {"turns", "rounds"}
+GENERATORS = {"turns", "rounds", "leads_on"}
 
 
 def read_files():
