@@ -22,23 +22,22 @@ class Trial:
 
     def __init__(self, desk):
         self.desk = desk
-        self.begun = False
         self.ended = False
-        self.before = ()
+        # the row of the cups of the desk at the beginning, None unless the trial goes on
+        self.before = None
 
     def begin(self):
         """The desk, whose deeds are on trial from now on."""
-        if self.begun or self.ended:
+        if self.ended or self.before is not None:
             raise TrialEnded()
-        self.begun = True
         self.before = self.desk.kept
         return self.desk
 
     def finish(self):
         # the deeds of a desk never change the row of its cups, so the old row is all that is needed
-        desk = self.desk
-        if self.begun and not self.ended:
-            desk.kept = self.before
+        if self.before is not None:
+            self.desk.kept = self.before
+        self.before = None
         self.ended = True
 
     def __enter__(self):

@@ -67,6 +67,101 @@ def top_names(tree):
     return [node.name for node in tree.body if isinstance(node, (ast.FunctionDef, ast.ClassDef))]
 
 
+def is_own_attribute(node):
+    """True for an attribute of self, or an attribute of one."""
+    if not isinstance(node, ast.Attribute):
+        return False
+    while isinstance(node, ast.Attribute):
+        node = node.value
+    return isinstance(node, ast.Name) and node.id == "self"
+
+
+def is_held(node):
+    """True for what an attribute may be given in an __exit__; no sum, as classes of the package have a sign for it."""
+    if isinstance(node, (ast.List, ast.Tuple)):
+        return all(is_held(each) for each in node.elts)
+    return isinstance(node, ast.Constant) or is_own_attribute(node)
+
+
+def is_exit_test(node, asked):
+    """True for the test of an if in an __exit__; no attribute alone, as classes of the package have == and a length."""
+    if isinstance(node, ast.BoolOp):
+        return all(is_exit_test(each, asked) for each in node.values)
+    if isinstance(node, ast.UnaryOp) and isinstance(node.op, ast.Not):
+        return is_exit_test(node.operand, asked)
+    if not isinstance(node, ast.Compare) or len(node.ops) != 1 or not isinstance(node.ops[0], (ast.Is, ast.IsNot)):
+        return False
+    worth = node.comparators[0]
+    if not isinstance(worth, ast.Constant) or worth.value is not None:
+        return False
+    return is_own_attribute(node.left) or isinstance(node.left, ast.Name) and node.left.id == asked
+
+
+def own_call(row):
+    """The name of the method in a row self.shut(), or None."""
+    called = getattr(row, "value", None)
+    if not isinstance(row, ast.Expr) or not isinstance(called, ast.Call) or called.args or called.keywords:
+        return None
+    fitting = isinstance(called.func, ast.Attribute) and isinstance(called.func.value, ast.Name)
+    return called.func.attr if fitting and called.func.value.id == "self" else None
+
+
+def is_exit_call(row):
+    """True for the row self.rows.append(..) or self.rows.clear()."""
+    called = getattr(row, "value", None)
+    if not isinstance(row, ast.Expr) or not isinstance(called, ast.Call) or called.keywords:
+        return False
+    if not is_own_attribute(called.func) or not is_own_attribute(called.func.value):
+        return False
+    many = {"append": 1, "clear": 0}.get(called.func.attr)
+    return len(called.args) == many and all(is_held(each) for each in called.args)
+
+
+def is_exit_row(row):
+    """True for a row that an __exit__, and a method that it calls, may have besides its ifs."""
+    if isinstance(row, ast.Return):
+        written = getattr(row.value, "value", None)
+        return row.value is None or isinstance(row.value, ast.Constant) and (written is None or written is False)
+    if isinstance(row, ast.Assign):
+        return len(row.targets) == 1 and is_own_attribute(row.targets[0]) and is_held(row.value)
+    if isinstance(row, ast.AugAssign):
+        written = getattr(row.value, "value", None)
+        fitting = isinstance(row.op, (ast.Add, ast.Sub)) and isinstance(row.value, ast.Constant)
+        return fitting and type(written) is int and is_own_attribute(row.target)
+    return isinstance(row, ast.Pass) or is_exit_call(row)
+
+
+def exit_faults(rows, methods, asked):
+    """The lines of the rows that L6 With does not allow; methods are those that may be called."""
+    for row in rows:
+        if isinstance(row, ast.If):
+            if not is_exit_test(row.test, asked):
+                yield row.lineno
+            yield from exit_faults(row.body + row.orelse, methods, asked)
+        elif own_call(row) in methods:
+            # what it calls is handed nothing and calls nothing itself
+            called = methods[own_call(row)]
+            if ast.unparse(called.args) != "self" or called.decorator_list:
+                yield called.lineno
+            yield from exit_faults(called.body, {}, None)
+        elif not is_exit_row(row):
+            yield row.lineno
+
+
+def faults_of(owner):
+    """The lines of a class that L6 With does not allow in its __exit__ and in what that calls."""
+    methods = {each.name: each for each in owner.body if isinstance(each, ast.FunctionDef)}
+    found = methods.get("__exit__")
+    if found is None:
+        return []
+    handed = ast.unparse(found.args)
+    faults = [] if handed in ("self, kind, value, trace", "self, *told") else [found.lineno]
+    if "__enter__" not in methods or ast.unparse(methods["__enter__"].args) != "self":
+        faults.append(owner.lineno)
+    asked = "kind" if handed == "self, kind, value, trace" else None
+    return faults + list(exit_faults(found.body, methods, asked))
+
+
 def imports_of(tree):
     """All imports of a file."""
     return [node for node in tree.body if isinstance(node, ast.ImportFrom)]
@@ -279,7 +374,10 @@ class SignTest(unittest.TestCase):
                 if isinstance(node, ast.ClassDef):
                     methods |= {each.name for each in node.body if isinstance(each, ast.FunctionDef)}
                 if isinstance(node, ast.Attribute) and isinstance(node.ctx, ast.Store):
-                    self.assertIsInstance(node.value, ast.Name)
+                    root = node.value
+                    while isinstance(root, ast.Attribute):
+                        root = root.value
+                    self.assertIsInstance(root, ast.Name)
                     attributes.add(node.attr)
         self.assertEqual(methods & attributes, set())
 
@@ -318,6 +416,89 @@ class SignTest(unittest.TestCase):
                             self.assertNotIn(getattr(node.func.value, "id", None), over, (name, node.lineno))
                     if isinstance(node, ast.Subscript) and isinstance(node.ctx, (ast.Store, ast.Del)):
                         self.assertNotIn(getattr(node.value, "id", None), over, (name, node.lineno))
+
+
+RIGHT_EXITS = (
+    "self.now = 0", "self.net.now = None", "self.net.rows = self.rows", "self.rows = [self.now, (1, 'a')]",
+    "self.now += 1", "self.net.now -= 2", "self.rows.append(self.now)", "self.net.rows.clear()", "pass", "return",
+    "return None", "return False", "self.shut()", "if kind is None:\n    self.now = 1",
+    "if kind is not None and not self.rows is None:\n    pass",
+    "if self.rows is None:\n    return\nelif self.now is not None or kind is None:\n    self.shut()\nelse:\n    pass",
+)
+WRONG_EXITS = (
+    "net = self.net", "now = 0", "self.now = now", "self.now = kind", "self.now = -1", "self.now = self.other + 1",
+    "self.now = self.other - 1", "self.now = self.rows[0]", "self.rows[0] = 1", "self.now = [self.rows[0]]",
+    "self.now = {}", "self.now = len(self.rows)", "self.now = self.worth()", "self.now = self.rest = 0",
+    "self.now, self.rest = 0, 1", "self.now: int = 0", "self.now = not self.rest", "self.now += self.rest",
+    "self.now += -1", "self.now += True", "self.now *= 2", "now += 1", "self.now = f'{self.rest}'", "del self.now",
+    "return True", "return 0", "return self.now", "raise KeyError()", "assert self.now is None",
+    "for row in self.rows:\n    pass", "while self.now is None:\n    pass", "try:\n    pass\nfinally:\n    pass",
+    "if self.now:\n    pass", "if not self.now:\n    pass", "if kind:\n    pass",
+    "if self.now is None and not self.rest:\n    pass", "if self.now == 1:\n    pass",
+    "if self.now is True:\n    pass", "if self.now is self.rest:\n    pass", "if value is None:\n    pass",
+    "if trace is not None:\n    pass", "if self.now is None is None:\n    pass", "if None is self.now:\n    pass",
+    "if self.rows[0] is None:\n    pass", "if self.now is None:\n    net = self.net",
+    "if self.now is None:\n    pass\nelse:\n    del self.now", "if kind is None:\n    pass\nelif self.now:\n    pass",
+    "self.rows.append(kind)", "self.rows.append(self.now + 1)", "self.rows.append()", "self.rows.append(1, 2)",
+    "self.rows.clear(1)", "self.rows.pop()", "self.rows.extend([1])", "rows.append(1)", "self.other()",
+    "self.shut(1)", "self.shut(kind=1)", "self.net.shut()", "shut()", "self.now", "1", "'what it does'",
+    "with self.net:\n    pass", "match self.now:\n    case 1:\n        pass", "self.handed()", "self.made()",
+)
+
+
+class WithTest(unittest.TestCase):
+    def class_of(self, rows, shut="pass", handed="self, kind, value, trace"):
+        """The class of these rows in its __exit__, and of these in a method that it may call."""
+        listed = [("__enter__(self)", "return self"), (f"__exit__({handed})", rows), ("shut(self)", shut),
+                  ("handed(self, more=0)", "pass")]
+        text = "class Held:\n"
+        for head, body in listed:
+            text += f"    def {head}:\n" + "".join(f"        {row}\n" for row in body.split("\n"))
+        text += "    @staticmethod\n    def made():\n        pass\n"
+        return ast.parse(text).body[0]
+
+    def test_exits(self):
+        found = []
+        for name, _, tree in read_files():
+            for node in ast.walk(tree):
+                if isinstance(node, ast.ClassDef):
+                    self.assertEqual(faults_of(node), [], (name, node.name))
+                    if any(getattr(each, "name", None) == "__exit__" for each in node.body):
+                        found.append(node.name)
+        self.assertEqual(found, ["Trial"])
+
+    def test_withs(self):
+        for name, _, tree in read_files():
+            for node in ast.walk(tree):
+                if isinstance(node, ast.With):
+                    for entry in node.items:
+                        fitting = (ast.Call, ast.Name, ast.Attribute)
+                        self.assertIsInstance(entry.context_expr, fitting, (name, node.lineno))
+                        self.assertIsInstance(entry.optional_vars, (ast.Name, type(None)), (name, node.lineno))
+
+    def test_right_rows_are_let_through(self):
+        for rows in RIGHT_EXITS:
+            self.assertEqual(faults_of(self.class_of(rows)), [], rows)
+            if "shut" not in rows and "kind" not in rows:
+                self.assertEqual(faults_of(self.class_of("self.shut()", rows)), [], rows)
+        self.assertEqual(faults_of(self.class_of("self.now = 0", handed="self, *told")), [])
+
+    def test_wrong_rows_are_seen(self):
+        for rows in WRONG_EXITS:
+            self.assertNotEqual(faults_of(self.class_of(rows)), [], rows)
+            self.assertNotEqual(faults_of(self.class_of("self.shut()", rows)), [], rows)
+            self.assertNotEqual(faults_of(self.class_of("if kind is None:\n    self.shut()", rows)), [], rows)
+        # a method that an __exit__ calls is handed nothing and calls no other one
+        for rows in ("if kind is None:\n    pass", "self.shut()", "self.__enter__()"):
+            self.assertNotEqual(faults_of(self.class_of("self.shut()", rows)), [], rows)
+        for handed in ("self", "self, kind", "self, kind, value", "self, kind, value, trace=None", "self, a, b, c"):
+            self.assertNotEqual(faults_of(self.class_of("pass", handed=handed)), [], handed)
+        self.assertNotEqual(faults_of(self.class_of("if kind is None:\n    pass", handed="self, *told")), [])
+        self.assertNotEqual(faults_of(self.class_of("if told is None:\n    pass", handed="self, *told")), [])
+
+    def test_the_line_is_told(self):
+        rows = "if self.begun is not None:\n    desk = self.desk\nself.shut()"
+        self.assertEqual(faults_of(self.class_of(rows, "if self.begun:\n    pass")), [6, 9])
 
 
 if __name__ == "__main__":

@@ -123,6 +123,170 @@ class TrialTest(DiceTest):
         self.same([trial.ended, desk.done], [True, 1])
         self.fails(TrialEnded, {}, trial.begin)
 
+    def test_deeds_between_the_finishes(self):
+        chooser = chooser_of(653)
+        for _ in range(40):
+            desk = Desk(some_cup(chooser))
+            deed_done(desk, *some_deed(chooser, desk.cup_now))
+            before = state_of(desk)
+            trial = Trial(desk)
+            trial.begin()
+            for _ in range(chooser.randint(0, 3)):
+                deed_done(desk, *some_deed(chooser, desk.cup_now))
+            trial.finish()
+            self.same(state_of(desk), before)
+            for _ in range(3):
+                if desk.done and chooser.randint(0, 1):
+                    desk.back()
+                else:
+                    deed_done(desk, *some_deed(chooser, desk.cup_now))
+                after = state_of(desk)
+                self.assertIsNone(trial.finish())
+                self.same([state_of(desk), trial.ended], [after, True])
+
+    def test_never_begun(self):
+        desk = Desk(RING)
+        desk.turn_round()
+        trial = Trial(desk)
+        for _ in range(3):
+            self.assertIsNone(trial.finish())
+            desk.turn_round()
+            self.fails(TrialEnded, {}, trial.begin)
+            self.fails(TrialEnded, {}, trial.__enter__)
+        self.same([desk.done, trial.ended], [4, True])
+
+    def test_begun_again_behind_its_end(self):
+        desk = Desk(RING)
+        trial = Trial(desk)
+        with trial:
+            desk.turn_round()
+        self.same([desk.done, trial.ended], [0, True])
+        desk.drop(0)
+        for _ in range(3):
+            # a wrong beginning is none: nothing is taken back behind it
+            self.fails(TrialEnded, {}, trial.begin)
+            desk.turn_round()
+            trial.finish()
+        self.same([desk.done, trial.ended], [4, True])
+
+    def test_begun_again_before_its_end(self):
+        desk = Desk(RING)
+        desk.turn_round()
+        before = state_of(desk)
+        trial = Trial(desk)
+        with trial:
+            desk.drop(0)
+            # the desk goes back to the first beginning
+            self.fails(TrialEnded, {}, trial.begin)
+            self.same([desk.done, trial.ended], [2, False])
+        self.same([state_of(desk), trial.ended], [before, True])
+
+    def test_finished_in_its_block(self):
+        desk = Desk(RING)
+        trial = Trial(desk)
+        with trial:
+            desk.turn_round()
+            trial.finish()
+            self.same([desk.done, trial.ended], [0, True])
+            desk.drop(0)
+            desk.drop(0)
+        self.same([desk.done, trial.ended], [2, True])
+
+    def test_inner_trials_finished_again(self):
+        desk = Desk(RING)
+        desk.turn_round()
+        before = state_of(desk)
+        outer, inner, other = Trial(desk), Trial(desk), Trial(desk)
+        with outer:
+            desk.turn_round()
+            with inner:
+                desk.drop(0)
+                other.finish()
+                self.same(desk.done, 3)
+            desk.drop(1)
+            after = state_of(desk)
+            inner.finish()
+            self.fails(TrialEnded, {}, inner.begin)
+            self.fails(TrialEnded, {}, other.begin)
+            self.same([state_of(desk), outer.ended], [after, False])
+        self.same(state_of(desk), before)
+        self.same([outer.ended, inner.ended, other.ended], [True, True, True])
+        desk.back()
+        for trial in (outer, inner, other):
+            trial.finish()
+        self.same(desk.done, 0)
+
+    def test_any_error_is_passed_on(self):
+        for error in (ValueError, StopIteration, TrialEnded, NothingBack, KeyboardInterrupt, GeneratorExit):
+            desk = Desk(RING)
+            desk.turn_round()
+            trials = [Trial(desk), Trial(desk)]
+            raised = error()
+            with self.assertRaises(error) as caught:
+                with trials[0]:
+                    desk.back()
+                    with trials[1]:
+                        desk.drop(0)
+                        raise raised
+            self.assertIs(caught.exception, raised)
+            self.same([desk.done, desk.cup_now.dice], [1, (~Cup(RING)).dice])
+            self.same([trial.ended for trial in trials], [True, True])
+            self.assertFalse(Trial(desk).__exit__(error, raised, None))
+
+    def test_error_out_of_an_ended_trial(self):
+        desk = Desk(RING)
+        trial = Trial(desk)
+        with self.assertRaises(KeyError):
+            with trial:
+                trial.finish()
+                desk.turn_round()
+                raise KeyError("z")
+        self.same([desk.done, trial.ended], [1, True])
+
+    def test_left_by_a_return(self):
+        desk = Desk(RING)
+
+        def left():
+            with Trial(desk) as held:
+                return held.drop(0)
+
+        self.same([left(), desk.done], [{"dice": 2}, 0])
+
+    def test_against_a_row_of_cups(self):
+        chooser = chooser_of(654)
+        for _ in range(60):
+            desk = Desk(some_cup(chooser))
+            # the cups that the desk should hold, and those at the beginning of each trial that goes on
+            cups, open_trials, ended = [desk.cup_now.dice], [], []
+            for _ in range(25):
+                step = chooser.randrange(6)
+                if step == 0:
+                    trial = Trial(desk)
+                    self.assertIs(trial.begin(), desk)
+                    open_trials.append((trial, list(cups)))
+                elif step == 1 and open_trials:
+                    trial, cups = open_trials.pop()
+                    self.assertIsNone(trial.finish())
+                    ended.append(trial)
+                elif step == 2:
+                    ended.append(Trial(desk))
+                    ended[-1].finish()
+                elif step == 3 and len(cups) > 1:
+                    desk.back()
+                    cups.pop()
+                elif len(cups) < 4:
+                    deed_done(desk, *some_deed(chooser, desk.cup_now))
+                    cups.append(desk.cup_now.dice)
+                for trial, _ in open_trials:
+                    self.fails(TrialEnded, {}, trial.begin)
+                    self.assertIs(trial.ended, False)
+                for trial in ended:
+                    self.fails(TrialEnded, {}, trial.begin)
+                    self.assertIsNone(trial.finish())
+                    self.assertIs(trial.ended, True)
+                self.same([desk.done, desk.cup_now.dice], [len(cups) - 1, cups[-1]])
+            self.same(state_of(desk), cups[::-1])
+
     def test_after_it(self):
         desk = Desk(RING)
         desk.turn_round()
